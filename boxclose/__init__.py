@@ -1,0 +1,1 @@
+"""Boxclose: boxes that two hands close by drawing sides in turn."""
