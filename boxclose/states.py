@@ -48,3 +48,41 @@ def states_back(start, many):
     """
     # A drawn side only adds a bit, so a state's bits are below those of all that come from it.
     return [bits for bits in range(full_bits(many) - 1, start - 1, -1) if bits & start == start]
+
+
+def drawn_of(many, bits):
+    """The drawn sides, of so many sides, of the state of the bits, rising."""
+    return [side for side in range(many) if bits >> side & 1]
+
+
+def steps_by(sides, rims, bits, own):
+    """What may come behind a spot: pairs of how many boxes are closed and the spot then.
+
+    A spot is a state's bits and whether the hand draws there that draws by the sides, which are told by
+    their states' bits; the other one draws any free side. The turn doesn't follow from the bits: two boxes
+    may be closed at once or one behind the other.
+    """
+    steps = []
+    for side in free_of(len(rims), bits):
+        if not own or sides.get(bits) == side:
+            gained = gain(rims, bits, side)
+            # Who closes a box draws again, else the other one does.
+            steps.append((gained, (bits | 1 << side, own if gained > 0 else not own)))
+    return steps
+
+
+def spots_by(sides, rims, start, own):
+    """The steps of each spot that comes from a first one, that one too, by the spot.
+
+    Each spot stands behind all that it comes from. Where no side is told to the hand, nothing comes behind.
+    """
+    spots = {}
+    reached = {(start, own): True}
+    for bits in range(start, full_bits(len(rims)) + 1):
+        for turn in (True, False):
+            if (bits, turn) in reached:
+                steps = steps_by(sides, rims, bits, turn)
+                spots[(bits, turn)] = steps
+                for _, spot in steps:
+                    reached[spot] = True
+    return spots

@@ -8,10 +8,10 @@ from samples import ALIKE, HUGE, NO_NETS, PAIR, STRAYS, no_drawn
 
 
 def is_plain(told):
-    """Whether all numbers in it are whole numbers, never True or False, within lists and tuples."""
+    """Whether all in it are whole numbers, never True or False, or texts, within lists and tuples."""
     if isinstance(told, (list, tuple)):
         return all(is_plain(part) for part in told)
-    return type(told) is int
+    return type(told) in (int, str)
 
 
 def lists_in(told):
@@ -48,6 +48,8 @@ class DoorTest:
         self.assertTrue(is_plain(told), told)
         handed = [id(found) for found in lists_in(args)]
         self.assertFalse([found for found in lists_in(told) if id(found) in handed])
+        own = [id(found) for found in lists_in(told)]
+        self.assertEqual(len(set(own)), len(own))
         for found in lists_in(told):
             found.append("spoilt")
             found.insert(0, None)

@@ -90,3 +90,26 @@ def small_nets():
                 if all(any(box in side for side in sides) for box in range(boxes)):
                     found.append((boxes, list(sides)))
     return found
+
+
+def fresh(net):
+    """The net, made anew, so that a test may spoil it."""
+    return (net[0], list(net[1]))
+
+
+def no_lengths(shortest):
+    """What are no lengths of chains or of rings, of which the shortest is told."""
+    right = shortest + 1
+    return STRAYS + [
+        right, HUGE, (), (right,), (right, right), knotted(), [None], [True], [False], [right, True], ["4"], [b"4"],
+        [[]], [[right]], [(right,)], [{}], [right, None], [None, right], [right, "5"],
+        [0], [1], [-1], [-right], [shortest - 1], [shortest - 1, right], [1001], [right, 1001], [HUGE], [-HUGE],
+        [right, shortest], [1000, shortest], [shortest, 1000, 999], [right] * 9, [right] * 1000,
+    ]
+
+
+def small_endings():
+    """All endings of at most 9 boxes, the one of none too."""
+    chains = [list(some) for many in range(4) for some in combinations_with_replacement(range(3, 10), many)]
+    rings = [list(some) for many in range(3) for some in combinations_with_replacement(range(4, 10), many)]
+    return [(some, others) for some in chains for others in rings if sum(some) + sum(others) <= 9]

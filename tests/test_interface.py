@@ -25,6 +25,19 @@ DOORS = {
         "best_plays": ["net", "drawn"],
         "play_by": ["net", "drawn", "number"],
     },
+    "plans": {
+        "judged": ["net", "drawn", "least"],
+    },
+    "endings": {
+        "ending": ["chains", "rings"],
+        "openings": ["chains", "rings"],
+        "ending_net": ["chains", "rings"],
+        "reply": ["kind", "length", "chains", "rings"],
+    },
+    "joining": {
+        "renamed": ["net", "order"],
+        "beside": ["net", "other"],
+    },
 }
 
 
@@ -45,6 +58,26 @@ class Interface(unittest.TestCase):
         lines = import_module("boxclose.lines")
         self.assertEqual(lines.led(net=(1, [(-1, 0)]), drawn=[], sides=[0]), (1, 0, 0))
         self.assertEqual(lines.play_by(net=(1, [(-1, 0)]), drawn=[], number=0), [0])
+        plans = import_module("boxclose.plans")
+        self.assertEqual(plans.judged(net=(1, [(-1, 0)]), drawn=[], least=1).plan, [([], 0)])
+        endings = import_module("boxclose.endings")
+        self.assertEqual(endings.ending(chains=[3], rings=[]), -3)
+        self.assertEqual(endings.reply(kind="ring", length=4, chains=[3], rings=[]), "all")
+        joining = import_module("boxclose.joining")
+        self.assertEqual(joining.renamed(net=(1, [(-1, 0)]), order=[0]), (1, [(-1, 0)]))
+        self.assertEqual(joining.beside(net=(1, [(-1, 0)]), other=(1, [(-1, 0)])), (2, [(-1, 0), (-1, 1)]))
+
+    def test_answers_stand_in_their_file_with_their_own_methods(self):
+        answers = import_module("boxclose.answers")
+        self.assertEqual(answers.Answer.__bases__, (object,))
+        for kind in (answers.Gets, answers.Held):
+            self.assertEqual(kind.__bases__, (answers.Answer,))
+            self.assertEqual(kind.__module__, "boxclose.answers")
+            self.assertEqual(list(inspect.signature(kind).parameters), ["plan"])
+            self.assertTrue(inspect.isfunction(vars(kind)["shows"]))
+            self.assertEqual(list(inspect.signature(kind.shows).parameters), ["self", "net", "drawn", "least"])
+            self.assertEqual(vars(kind(plan=[([], 0)])), {"plan": [([], 0)]})
+            self.assertIs(kind([]).shows(net=(1, [(-1, 0)]), drawn=[0], least=0), kind is answers.Gets)
 
 
 class Files(unittest.TestCase):
@@ -106,7 +139,7 @@ class Files(unittest.TestCase):
             for node in ast.walk(tree):
                 if isinstance(node, ast.Name) and isinstance(node.ctx, ast.Store):
                     self.assertFalse(hasattr(builtins, node.id), f"{name}: {node.id}")
-                if isinstance(node, (ast.FunctionDef, ast.ClassDef)):
+                if isinstance(node, (ast.FunctionDef, ast.ClassDef)) and node.name != "__init__":
                     self.assertFalse(hasattr(builtins, node.name), f"{name}: {node.name}")
                 if isinstance(node, ast.arg):
                     self.assertFalse(hasattr(builtins, node.arg), f"{name}: {node.arg}")
